@@ -1,0 +1,1 @@
+"""Wordswap: wares that change hands by words said on."""
