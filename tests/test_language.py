@@ -41,6 +41,37 @@ def bound_names():
     return defs, parameters + names
 
 
+def drawn_from(file):
+    """The files that a file imports from, and those that these import from, and so on."""
+    met, unwalked = [], [file]
+    while unwalked:
+        for node in TREES[unwalked.pop()].body:
+            if isinstance(node, ast.ImportFrom):
+                other = node.module.removeprefix("wordswap.") + ".py"
+                if other not in met:
+                    met.append(other)
+                    unwalked.append(other)
+    return met
+
+
+def names_at_the_top(file):
+    """Of classes and imports, of defs, of plain values."""
+    body = TREES[file].body
+    imports = [alias.name for node in body if isinstance(node, ast.ImportFrom) for alias in node.names]
+    classes = [node.name for node in body if isinstance(node, ast.ClassDef)]
+    defs = [node.name for node in body if isinstance(node, ast.FunctionDef)]
+    values = [target.id for node in body if isinstance(node, ast.Assign) for target in node.targets]
+    return imports + classes, defs, values
+
+
+def parents(file):
+    return {child: node for node in ast.walk(TREES[file]) for child in ast.iter_child_nodes(node)}
+
+
+def called(node):
+    return node.func.id if isinstance(node, ast.Call) and isinstance(node.func, ast.Name) else None
+
+
 class Language(unittest.TestCase):
     def test_there_is_something_to_look_at(self):
         self.assertIn("webs.py", TREES)
@@ -74,6 +105,52 @@ class Language(unittest.TestCase):
             self.assertEqual(node.level, 0, file)
             self.assertRegex(node.module, r"^wordswap\.\w+$", file)
             self.assertIn(node, TREES[file].body)
+
+    def test_imports_come_from_where_the_name_is_defined_and_never_round(self):
+        for file, node in all_nodes(ast.ImportFrom):
+            there = TREES[node.module.removeprefix("wordswap.") + ".py"].body
+            defined = [part.name for part in there if isinstance(part, (ast.FunctionDef, ast.ClassDef))]
+            defined += [target.id for part in there if isinstance(part, ast.Assign) for target in part.targets]
+            for alias in node.names:
+                self.assertIn(alias.name, defined, file)
+                self.assertIsNone(alias.asname, file)
+        for file in TREES:
+            self.assertNotIn(file, drawn_from(file))
+
+    def test_each_name_once(self):
+        for file in TREES:
+            taken, defs, values = names_at_the_top(file)
+            self.assertEqual(len(set(taken + defs + values)), len(taken + defs + values), file)
+            bound = [node.arg for node in ast.walk(TREES[file]) if isinstance(node, ast.arg)]
+            bound += [node.id for node in ast.walk(TREES[file]) if isinstance(node, ast.Name)
+                      and isinstance(node.ctx, ast.Store)]
+            self.assertEqual(set(bound) & set(taken + defs), set(), file)
+
+    def test_sets_are_used_on_the_spot(self):
+        for file in TREES:
+            above = parents(file)
+            for node in [node for node in above if called(node) in ("set", "frozenset")]:
+                over = above[node]
+                self.assertTrue(isinstance(over, (ast.Compare, ast.BinOp)) or called(over) in ("sorted", "len"),
+                                (file, node.lineno))
+
+    def test_what_is_walked_is_walked_at_once(self):
+        for file in TREES:
+            above = parents(file)
+            for node in [node for node in above if isinstance(node, ast.Call)]:
+                name = called(node) or getattr(node.func, "attr", None)
+                if name in ("zip", "enumerate", "reversed", "range", "items", "keys", "values"):
+                    over = above[node]
+                    walked = isinstance(over, (ast.For, ast.comprehension)) and over.iter is node
+                    self.assertTrue(walked or called(over) in ("list", "tuple", "dict", "sorted", "sum", "any", "all"),
+                                    (file, node.lineno))
+
+    def test_keywords(self):
+        for file, node in all_nodes(ast.Call):
+            for keyword in node.keywords:
+                self.assertIn((called(node), keyword.arg), [("sorted", "key"), ("sorted", "reverse"), ("min", "key"),
+                              ("max", "key"), ("min", "default"), ("max", "default"), ("sum", "start"),
+                              ("enumerate", "start"), ("zip", "strict")], (file, node.lineno))
 
     def test_functions(self):
         for file, node in all_nodes(ast.FunctionDef):
