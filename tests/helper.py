@@ -44,6 +44,32 @@ def walks(web):
     return [walk for walk in tuples if all(step in web.passings for step in zip(walk, walk[1:]))]
 
 
+@cache
+def rings(web):
+    """All rings, each as a walk from its least hand on."""
+    return [walk for walk in walks(web) if walk[0] == min(walk) and (walk[-1], walk[0]) in web.passings]
+
+
+def led(web, leaders):
+    return all(set(ring) & set(leaders) for ring in rings(web))
+
+
+def plain_span(web, leaders):
+    """The most hands on a walk that no leader stands on but at its beginning: for rings that are all led."""
+    return max(len(walk) for walk in walks(web) if not set(walk[1:]) & set(leaders))
+
+
+def weighed(web, leaders):
+    """All that point 25 tells of, but for the limits: sorted tuples (u, j, x, w)."""
+    ends = {(walk[0], walk[-1], u) for walk in walks(web) for u in range(web.number) if u not in walk}
+    return sorted((u, j, x, w) for u, x in web.passings for w in web.givers_of(u) for j in leaders
+                  if (x, j, u) in ends)
+
+
+def others(plan, h):
+    return [other for other in range(plan.web.number) if other != h]
+
+
 def by_length(chains):
     return sorted(chains, key=lambda chain: (len(chain), chain))
 
@@ -219,6 +245,24 @@ def some_plans():
         if leaders:
             most = lot.choice([1, 4, 9])
             plans.append(Plan(web, leaders, {passing: lot.randint(0, most) for passing in web.passings}))
+    return plans
+
+
+@cache
+def uneven_plans():
+    """Plans of joined webs whose rings all have a leader, no limit less than the span, and more by lot.
+
+    In every second one limits are raised until no limit of (w, u) is less than that of (u, x).
+    """
+    lot = Random("uneven")
+    plans = []
+    for place, even in enumerate(span_plans()[::3]):
+        limits = {passing: limit + lot.choice([0, 0, 0, 1, 2, 6]) for passing, limit in even.limits.items()}
+        rows = weighed(even.web, even.leaders) if place % 2 else []
+        while any(limits[w, u] < limits[u, x] for u, j, x, w in rows):
+            for u, j, x, w in rows:
+                limits[w, u] = max(limits[w, u], limits[u, x])
+        plans.append(Plan(even.web, even.leaders, limits))
     return plans
 
 

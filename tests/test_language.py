@@ -184,6 +184,27 @@ class Language(unittest.TestCase):
                 self.assertIsInstance(node.comparators[0], ast.Constant, (file, node.lineno))
                 self.assertNotIsInstance(node.comparators[0].value, str, (file, node.lineno))
 
+    def test_errors_are_taken_by_the_programs_own_names(self):
+        own = [node.name for node in TREES["errors.py"].body if isinstance(node, ast.ClassDef)]
+        for file, node in all_nodes(ast.ExceptHandler):
+            self.assertIn(getattr(node.type, "id", None), own + ["KeyError"], (file, node.lineno))
+        for file, node in all_nodes(ast.Raise):
+            self.assertIn(called(node.exc), own, (file, node.lineno))
+
+    def test_texts(self):
+        for file, node in all_nodes(ast.Constant):
+            if isinstance(node.value, str):
+                self.assertNotIn("%", node.value, (file, node.lineno))
+        for name in TREES:
+            text = (PACKAGE / name).read_text(encoding="utf-8")
+            self.assertEqual(set(re.findall(r"\\.", text)) - {"\\n"}, set(), name)
+
+    def test_values_at_the_top(self):
+        for file, tree in TREES.items():
+            for node in tree.body:
+                if isinstance(node, ast.Assign):
+                    self.assertIsInstance(node.value, ast.Constant, (file, node.lineno))
+
     def test_bound_names(self):
         defs, others = bound_names()
         for file, name in defs + others:
